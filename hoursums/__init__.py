@@ -1,0 +1,1 @@
+"""Hoursums: sets of hours added on a clock."""
