@@ -68,7 +68,8 @@ class OperatorsTest(unittest.TestCase):
 
     def test_a_clock_of_one_hour(self):
         none, zero = Hours(1), Hours(1, (0,))
-        self.assertEqual((zero + zero, zero - zero, ~zero, ~none, -zero, zero * 5), (zero, zero, none, zero, zero, zero))
+        self.assertEqual((zero + zero, zero - zero, -zero, zero * 5), (zero, zero, zero, zero))
+        self.assertEqual((~zero, ~none), (none, zero))
         self.assertEqual((zero + none, none + none, none - zero, none * 2, -none), (none, none, none, none, none))
 
     def test_great_factors_and_moves(self):
@@ -226,8 +227,8 @@ class FewestAndRowTest(unittest.TestCase):
     def test_told_rows(self):
         for text, hour, row in (
             ("12: 2 6", 0, ()), ("12:", 0, ()), ("12:", 1, None), ("12: 0", 1, None), ("12: 4 8", 2, None),
-            ("12: 1 5", 3, (1, 1, 1)), ("12: 3 4 9", 6, (3, 3)), ("12: 1 3 5 7", 8, (1, 7)), ("1:", 0, ()), ("1: 0", 0, ()),
-            ("12: 2 3 4 10 11", 1, (2, 11)), ("12: 11", 10, (11, 11)), ("12: 3 5", 1, (3, 5, 5)), ("240: 0 1", 0, ()),
+            ("12: 1 5", 3, (1, 1, 1)), ("12: 3 4 9", 6, (3, 3)), ("12: 1 3 5 7", 8, (1, 7)), ("1:", 0, ()),
+            ("1: 0", 0, ()), ("12: 2 3 4 10 11", 1, (2, 11)), ("12: 11", 10, (11, 11)), ("12: 3 5", 1, (3, 5, 5)), ("240: 0 1", 0, ()),
         ):
             one = Hours.read(text)
             self.assertEqual((one.row(hour), one.row(hour=hour)), (row, row), text)
