@@ -29,6 +29,11 @@ def check_integer(number):
         raise InvalidNumber(number)
 
 
+def check_number(number, least, most):
+    if not is_integer(number) or not least <= number <= most:
+        raise InvalidNumber(number)
+
+
 def check_clock(clock, most):
     if not is_integer(clock) or clock < 1:
         raise InvalidNumber(clock)
@@ -36,8 +41,8 @@ def check_clock(clock, most):
         raise TooMany(clock)
 
 
-def check_times(times):
-    if not is_integer(times) or times < 0:
+def check_times(times, least=0):
+    if not is_integer(times) or times < least:
         raise InvalidNumber(times)
     if times > MOST_TIMES:
         raise TooMany(times)

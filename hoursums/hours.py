@@ -148,9 +148,13 @@ def of_mask(clock, mask):
     return Hours(clock, tuple(hours_of(mask)))
 
 
+def check_one(one):
+    if not isinstance(one, Hours):
+        raise NotHours(one)
+
+
 def check_other(clock, other):
-    if not isinstance(other, Hours):
-        raise NotHours(other)
+    check_one(other)
     if other.clock != clock:
         raise OtherClock(other.clock)
 

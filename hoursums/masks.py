@@ -47,6 +47,14 @@ def sums(clock, one, other):
     return wrapped(clock, total)
 
 
+def fitting(clock, one, other):
+    """The mask of the hours of which each sum with an hour of the one is in the other."""
+    fits = whole_mask(clock)
+    for hour in hours_of(one):
+        fits = fits & turned(clock, other, -hour)
+    return fits
+
+
 def folded(clock, mask, times):
     """The mask of the sums of so many summands."""
     total, doubled, left = ZERO_ALONE, mask, times

@@ -1,6 +1,7 @@
 """What the tests share: sums straight from their definition, wrong values, and how a call fails."""
 
 from itertools import combinations, combinations_with_replacement
+from math import gcd
 
 from hoursums.hours import Hours
 
@@ -80,3 +81,42 @@ def least_row(clock, hours, hour):
             if sum(row) % clock == hour:
                 return row
     return None
+
+
+def turned(clock, mask, by):
+    """The bits of the mask, each moved by so many hours from 0 to the clock."""
+    return (mask << by | mask >> clock - by) & (1 << clock) - 1
+
+
+def sum_table(clock):
+    """For each set of the clock, as bits, the sums with each other set, as bits."""
+    table = []
+    for one in range(1 << clock):
+        told = [0]
+        for other in range(1, 1 << clock):
+            low = other & -other
+            told.append(told[other ^ low] | turned(clock, one, low.bit_length() - 1))
+        table.append(told)
+    return table
+
+
+def bits(hours):
+    return sum([1 << hour for hour in hours])
+
+
+def is_kept(clock, hours, by):
+    """Whether the set moved by so many hours is the same set."""
+    return sums(clock, hours, (by,)) == tuple(hours)
+
+
+def period(clock, hours):
+    return min([step for step in range(1, clock + 1) if clock % step == 0 and is_kept(clock, hours, step)])
+
+
+def divisors(clock):
+    return [d for d in range(1, clock + 1) if clock % d == 0]
+
+
+def units(clock):
+    """The factors that have no common divisor with the clock."""
+    return [factor for factor in range(1, clock + 1) if gcd(factor, clock) == 1]
