@@ -36,7 +36,7 @@ def tilings(one):
         raise TooMany(one.clock)
     if not one.hours or one.clock % len(one) != 0:
         return ()
-    copies = copies_of(one, range(one.clock))
+    copies = copies_of(one, list(range(one.clock)))
     rows = [((0,), copies[0])]
     for _ in range(one.clock // len(one) - 1):
         rows = [
